@@ -1,0 +1,29 @@
+"""The document's examples, as far as their points have landed."""
+
+import unittest
+
+from unitgrids.grids import Grid, bottom, cell
+from unitgrids.units import by_unit, factor, times_unit
+
+N = ((0, 1), (0, 1))
+M = ((1, 1), (0, 1))
+V = ((1, 1), (-1, 1))
+
+
+class ExamplesTest(unittest.TestCase):
+    def test_e01(self):
+        told = (times_unit(M, V), by_unit(M, V), factor(V, ((2, 1), (3, 1)), 1))
+        self.assertEqual(told, (((2, 1), (-1, 1)), ((0, 1), (1, 1)), (2, 3)))
+
+    def test_the_grids_above_it(self):
+        a = Grid(2, ((None, N), (((0, 1), (-2, 1)), ((0, 1), (-1, 1)))))
+        self.assertEqual([cell(a, 0, 0), cell(a, 0, 1)], [None, N])
+        self.assertEqual([cell(a, 1, 0), cell(a, 1, 1)], [((0, 1), (-2, 1)), ((0, 1), (-1, 1))])
+        grids = [Grid(2, ((M, V),)), Grid(2, ((N,), (N,))), Grid(1, ((None, ((1, 1),)), (((-1, 1),), None)))]
+        self.assertEqual([grid.bases for grid in grids], [2, 2, 1])
+        self.assertEqual([grid.rows for grid in grids[:2]], [((M, V),), ((N,), (N,))])
+        self.assertEqual([bottom(grid) for grid in grids], [1, 1, 1])
+
+
+if __name__ == "__main__":
+    unittest.main()
