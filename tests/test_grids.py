@@ -169,6 +169,15 @@ class CellTest(unittest.TestCase):
                     with self.assertRaises(NoCell):
                         call(i, j)
 
+    def test_one_row_and_one_column(self):
+        wide, high = Grid(1, ((None, ((1, 1),)),)), Grid(1, ((None,), (((1, 1),),)))
+        self.assertEqual([cell(wide, 0, 1), cell(high, 1, 0)], [((1, 1),)] * 2)
+        self.assertEqual(retold(wide, 0, 1, None), Grid(1, ((None, None),)))
+        self.assertEqual(retold(high, 1, 0, None), Grid(1, ((None,), (None,))))
+        for grid, i, j in ((wide, 1, 0), (wide, 0, 2), (high, 0, 1), (high, 2, 0)):
+            with self.assertRaises(NoCell):
+                cell(grid, i, j)
+
     def test_retold(self):
         for i, j, thing in product(range(2), range(3), (None, N, M, H, ((-6, 1), (5, 4)))):
             before = copy.deepcopy(GRID)
