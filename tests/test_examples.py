@@ -3,17 +3,36 @@
 import unittest
 
 from unitgrids.grids import Grid, bottom, cell
+from unitgrids.reckoning import outcome
+from unitgrids.scripts import Script, shape
 from unitgrids.units import by_unit, factor, times_unit
+from unitgrids.verdicts import least_way, unlike_length, verdict, verdicts
+from unitgrids.ways import ways
 
 N = ((0, 1), (0, 1))
 M = ((1, 1), (0, 1))
 V = ((1, 1), (-1, 1))
+S = Script((Grid(2, ((M, V),)), Grid(2, ((N,), (N,)))), (("times", 0, 1),))
+R = Script((Grid(1, ((None, ((1, 1),)), (((-1, 1),), None))),), (("star", 0),))
 
 
 class ExamplesTest(unittest.TestCase):
     def test_e01(self):
         told = (times_unit(M, V), by_unit(M, V), factor(V, ((2, 1), (3, 1)), 1))
         self.assertEqual(told, (((2, 1), (-1, 1)), ((0, 1), (1, 1)), (2, 3)))
+
+    def test_e02(self):
+        told = (shape(S, 2), verdict(S, 2, 0, 0), unlike_length(S, 2, 0, 0), ways(S, 2, 0, 0, 2))
+        self.assertEqual(told, ((1, 1), None, 2, [(0, (), ()), (1, (), ())]))
+
+    def test_e04(self):
+        told = (verdicts(R, 1), least_way(R, 1, 0, 0))
+        expected = (((((0, 1),), ((1, 1),)), (((-1, 1),), ((0, 1),))), ((0, 1, 0), ((), ())))
+        self.assertEqual(told, expected)
+
+    def test_e05(self):
+        told = outcome(R, ((((0, 1), (1, 2)), ((1, 2), (0, 1))),), 1)
+        self.assertEqual(told, (((1, 3), (2, 3)), ((2, 3), (1, 3))))
 
     def test_the_grids_above_it(self):
         a = Grid(2, ((None, N), (((0, 1), (-2, 1)), ((0, 1), (-1, 1)))))

@@ -2,6 +2,7 @@
 
 import ast
 import builtins
+import re
 import unittest
 from pathlib import Path
 
@@ -22,6 +23,21 @@ BUILTINS = set(
 )
 BARRED = (ast.Div, ast.Global, ast.AsyncFunctionDef, ast.AsyncFor, ast.AsyncWith, ast.Await, ast.Import)
 FOLDING = {"any", "all", "min", "max", "sum", "sorted"}
+VALUE_METHODS = set(
+    "append clear copy count endswith extend find get index insert isalnum isalpha isdigit islower isspace isupper "
+    "items join keys ljust lower lstrip partition pop remove replace reverse rfind rjust rpartition rsplit rstrip "
+    "setdefault split splitlines startswith strip update upper values zfill bit_length add discard".split()
+)
+BARRED_NAMES = set(
+    "register mro elements open input law version_info with_traceback add_note attrgetter breakpoint builtins compile "
+    "copyright credits delattr dir eval exec exit gc globals help id importlib license locals methodcaller os quit "
+    "sys type vars hash map iter next".split()
+)
+BARRED_WORDS = re.compile(
+    r"\b(type|typing|enum|Enum|IntEnum|StrEnum|Flag|IntFlag|Generic|Protocol|ABC|ABCMeta|namedtuple|NamedTuple|"
+    r"TypedDict|TYPE_CHECKING|abstractmethod)\b|dataclass|overload|contextmanager|_wall|_WallAttr"
+)
+SINGLE = (type(None), bool)
 
 
 def files():
@@ -91,6 +107,78 @@ class LanguageTest(unittest.TestCase):
                 self.assertFalse(plain and hasattr(builtins, node.name), (name, node.name))
             if isinstance(node, ast.arg):
                 self.assertFalse(hasattr(builtins, node.arg), (name, node.arg))
+
+    def test_names(self):
+        for path in files():
+            tree = ast.parse(path.read_text(encoding="ascii"))
+            bound = [alias.name for node in tree.body if isinstance(node, ast.ImportFrom) for alias in node.names]
+            classes = [node.name for node in tree.body if isinstance(node, ast.ClassDef)]
+            plain = [node.name for node in tree.body if isinstance(node, ast.FunctionDef)]
+            plain += [name.id for node in tree.body if isinstance(node, ast.Assign) for name in node.targets]
+            self.assertEqual(len(bound + classes + plain), len(set(bound + classes + plain)), path)
+            for function in [node for node in ast.walk(tree) if isinstance(node, ast.FunctionDef)]:
+                local = {node.arg for node in ast.walk(function) if isinstance(node, ast.arg)}
+                local |= {node.id for node in ast.walk(function)
+                          if isinstance(node, ast.Name) and not isinstance(node.ctx, ast.Load)}
+                self.assertFalse(local & set(bound + classes + plain), (path, function.name))
+                self.assertFalse(local & BARRED_NAMES, (path, function.name))
+
+    def test_imports_name_the_defining_file(self):
+        defined = {}
+        for path in files():
+            tree = ast.parse(path.read_text(encoding="ascii"))
+            names = {node.name for node in tree.body if isinstance(node, (ast.FunctionDef, ast.ClassDef))}
+            names |= {name.id for node in tree.body if isinstance(node, ast.Assign) for name in node.targets}
+            defined["unitgrids." + path.stem] = names
+        for name, node in nodes():
+            if isinstance(node, ast.ImportFrom) and node.module in defined:
+                self.assertLessEqual({alias.name for alias in node.names}, defined[node.module], name)
+
+    def test_all_that_is_defined_or_imported_is_used(self):
+        used = [node.id for _, node in nodes() if isinstance(node, ast.Name)]
+        used += [node.attr for _, node in nodes() if isinstance(node, ast.Attribute)]
+        for path in files():
+            tree = ast.parse(path.read_text(encoding="ascii"))
+            here = {node.id for node in ast.walk(tree) if isinstance(node, ast.Name)}
+            for node in tree.body:
+                if isinstance(node, ast.ImportFrom):
+                    self.assertLessEqual({alias.name for alias in node.names}, here, path)
+                if isinstance(node, ast.FunctionDef) and node.name.startswith("_"):
+                    self.assertIn(node.name, used, path)
+
+    def test_methods(self):
+        own = {part.name for _, node in nodes() if isinstance(node, ast.ClassDef) for part in node.body
+               if isinstance(part, ast.FunctionDef)}
+        stored = {node.attr for _, node in nodes() if isinstance(node, ast.Attribute)
+                  and not isinstance(node.ctx, ast.Load)}
+        self.assertFalse(own & stored)
+        self.assertFalse((own | stored) & VALUE_METHODS)
+        for name, node in nodes():
+            if isinstance(node, ast.Call) and isinstance(node.func, ast.Attribute):
+                self.assertIn(node.func.attr, own | VALUE_METHODS, name)
+            elif isinstance(node, ast.Attribute) and node.attr not in own | VALUE_METHODS:
+                self.assertIn(node.attr, stored, name)
+
+    def test_words(self):
+        for name, node in nodes():
+            words = []
+            if isinstance(node, ast.Constant) and isinstance(node.value, str):
+                self.assertNotIn("%", node.value, name)
+                words = [] if " " in node.value else [node.value]
+            if isinstance(node, (ast.Name, ast.Attribute, ast.FunctionDef, ast.ClassDef, ast.arg)):
+                words = [getattr(node, part) for part in ("id", "attr", "name", "arg") if hasattr(node, part)]
+            for word in words:
+                self.assertIsNone(BARRED_WORDS.search(word), (name, word))
+
+    def test_operators(self):
+        for name, node in nodes():
+            self.assertNotIsInstance(node, (ast.Set, ast.GeneratorExp, ast.Yield, ast.YieldFrom, ast.Try), name)
+            if isinstance(node, ast.Compare):
+                for sign, side in zip(node.ops, node.comparators):
+                    if isinstance(sign, (ast.Is, ast.IsNot)):
+                        self.assertTrue(isinstance(side, ast.Constant) and isinstance(side.value, SINGLE), name)
+            if isinstance(node, ast.BinOp) and isinstance(node.op, ast.Pow):
+                self.assertIsInstance(node.right, ast.Constant, name)
 
     def test_folding_takes_lists(self):
         for name, node in nodes():

@@ -4,6 +4,7 @@ from fractions import Fraction
 
 from unitgrids.errors import BadGrid, NoUnit
 from unitgrids.grids import Grid
+from unitgrids.scripts import Script
 
 DEEP = 40
 
@@ -33,7 +34,8 @@ def wrong_things():
         (), ((),), [], [0], [(0, 1)], [[0, 1]], {}, {0: 1}, {(0, 1): (0, 1)}, {"rows": None},
         range(2), slice(0, 1), len, int, tuple, object(), Ellipsis, NotImplemented, iter([]),
         deep_tuple(0), deep_tuple(None), deep_list(0), deep_dict(0), deep_tuple({0: [()]}),
-        Grid(1, ((None,),)), NoUnit(), BadGrid([0]), Grid, NoUnit,
+        Grid(1, ((None,),)), NoUnit(), BadGrid([0]), Grid, NoUnit, Script,
+        Script((Grid(1, ((((1, 1),),),)),), (("star", 0),)),
     ]
 
 
@@ -46,6 +48,21 @@ def wrong_fractions():
         (None, 1), (1, None), ("1", 1), (1, "1"), ((1,), 1), (1, (1,)), (1, [1]), ((1, 1), 1), (1, (1, 1)),
         (1, deep_tuple(1)), (deep_list(1), 1),
     ]
+
+
+def wrong_numbers():
+    """Things that are no integers from 0 on."""
+    return wrong_things() + [-1, -2, -10 ** 40, (0,), [0], "0", (0, 0), b"0"]
+
+
+def fails_with(test, kind, call, **fields):
+    """That a call raises an error of just this class, with these fields."""
+    with test.assertRaises(kind) as caught:
+        call()
+    test.assertIs(type(caught.exception), kind)
+    test.assertEqual(vars(caught.exception), fields)
+    for name, value in fields.items():
+        test.assertIs(type(getattr(caught.exception, name)), type(value))
 
 
 def as_python(fraction):

@@ -8,9 +8,19 @@ def is_whole(thing):
     return isinstance(thing, int) and not isinstance(thing, bool)
 
 
+def is_index(thing, many):
+    """Whether a thing is the number of one of so many things."""
+    return is_whole(thing) and 0 <= thing < many
+
+
+def is_pair(thing):
+    """Whether a thing is a tuple of two."""
+    return isinstance(thing, tuple) and len(thing) == 2
+
+
 def is_fraction(thing):
     """Whether a thing is a pair of integers in lowest terms, the second one from 1 on."""
-    if not isinstance(thing, tuple) or len(thing) != 2:
+    if not is_pair(thing):
         return False
     top, bottom = thing
     return is_whole(top) and is_whole(bottom) and bottom >= 1 and gcd(top, bottom) == 1
@@ -40,6 +50,19 @@ def less(one, other):
 def times(one, other):
     """The product of two fractions."""
     return lowest(one[0] * other[0], one[1] * other[1])
+
+
+def sum_of_products(pairs):
+    """The sum of the products of pairs of fractions."""
+    top = 0
+    bottom = 1
+    for one, other in pairs:
+        below = one[1] * other[1]
+        common = gcd(bottom, below)
+        top = top * (below // common) + one[0] * other[0] * (bottom // common)
+        bottom = bottom * (below // common)
+    # Great numbers are slow to be brought to lowest terms: so this is done once, not for each part.
+    return lowest(top, bottom)
 
 
 def whole_power(number, power):

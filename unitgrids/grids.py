@@ -3,7 +3,7 @@
 from math import lcm
 
 from unitgrids.errors import BadGrid, NoCell, NoNumbers, NoRoots, NoUnit
-from unitgrids.exact import is_above_nought, is_fraction, is_whole, times
+from unitgrids.exact import is_above_nought, is_fraction, is_index, is_whole, times
 from unitgrids.units import MOST_BASES, are_roots, factor, is_unit
 
 MOST_ROWS = 10
@@ -56,14 +56,9 @@ def _wrong_part(bases, rows):
     return None
 
 
-def _is_index(thing, many):
-    """Whether a thing is the number of one of so many rows or columns."""
-    return is_whole(thing) and 0 <= thing < many
-
-
 def _check_place(grid, i, j):
     """Raise NoCell for what is no row, or no column, of a grid."""
-    if not _is_index(i, len(grid.rows)) or not _is_index(j, len(grid.rows[0])):
+    if not is_index(i, len(grid.rows)) or not is_index(j, len(grid.rows[0])):
         raise NoCell()
 
 
@@ -136,14 +131,18 @@ def _in_other_units(unit, number, roots, scale):
     return times(number, factor(unit, roots, scale))
 
 
+def rescaled(grid, numbers, roots, scale):
+    """Numbers for a grid in other units, by a scale that fits all its units."""
+    rows = []
+    for row, line in zip(grid.rows, numbers):
+        rows.append(tuple([_in_other_units(unit, number, roots, scale) for unit, number in zip(row, line)]))
+    return tuple(rows)
+
+
 def renumbered(grid, numbers, roots):
     """The numbers in other units: each one times the factor of its cell's unit."""
     if not are_numbers(grid, numbers):
         raise NoNumbers()
     if not are_roots(grid.bases, roots):
         raise NoRoots()
-    scale = bottom(grid)
-    rows = []
-    for row, line in zip(grid.rows, numbers):
-        rows.append(tuple([_in_other_units(unit, number, roots, scale) for unit, number in zip(row, line)]))
-    return tuple(rows)
+    return rescaled(grid, numbers, roots, bottom(grid))

@@ -1,7 +1,7 @@
 """Units: tuples of exponents, one for each base unit; and what changes of units make of numbers."""
 
 from unitgrids.errors import NoFraction, NoRoots, NoScale, NoUnit, OtherBases
-from unitgrids.exact import is_above_nought, is_fraction, is_whole, less, plus, raised, times
+from unitgrids.exact import is_above_nought, is_fraction, is_whole, less, lowest, plus, raised, times
 
 MOST_BASES = 3
 
@@ -73,3 +73,18 @@ def factor(unit, roots, scale):
     for (top, bottom), root in zip(unit, roots):
         product = times(product, raised(root, (scale * top) // bottom))
     return product
+
+
+def exponents(unit, scale):
+    """The exponents of a unit, each times a scale that fits it: integers, which are added faster."""
+    return tuple([(scale * top) // bottom for top, bottom in unit])
+
+
+def unit_of(scaled, scale):
+    """The unit whose exponents, times a scale, are these integers."""
+    return tuple([lowest(exponent, scale) for exponent in scaled])
+
+
+def together(one, other):
+    """The sums of two units' scaled exponents."""
+    return tuple([first + second for first, second in zip(one, other)])
