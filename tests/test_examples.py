@@ -2,9 +2,13 @@
 
 import unittest
 
+from unitgrids.determinants import determinant_verdict
 from unitgrids.grids import Grid, bottom, cell
+from unitgrids.partings import is_parting, three_numbers
+from unitgrids.placings import live, many_placings
 from unitgrids.reckoning import outcome
 from unitgrids.scripts import Script, shape
+from unitgrids.tables import is_table
 from unitgrids.units import by_unit, factor, times_unit
 from unitgrids.verdicts import least_way, unlike_length, verdict, verdicts
 from unitgrids.ways import ways
@@ -13,6 +17,7 @@ N = ((0, 1), (0, 1))
 M = ((1, 1), (0, 1))
 V = ((1, 1), (-1, 1))
 S = Script((Grid(2, ((M, V),)), Grid(2, ((N,), (N,)))), (("times", 0, 1),))
+A = Grid(2, ((None, N), (((0, 1), (-2, 1)), ((0, 1), (-1, 1)))))
 R = Script((Grid(1, ((None, ((1, 1),)), (((-1, 1),), None))),), (("star", 0),))
 
 
@@ -25,6 +30,10 @@ class ExamplesTest(unittest.TestCase):
         told = (shape(S, 2), verdict(S, 2, 0, 0), unlike_length(S, 2, 0, 0), ways(S, 2, 0, 0, 2))
         self.assertEqual(told, ((1, 1), None, 2, [(0, (), ()), (1, (), ())]))
 
+    def test_e03(self):
+        told = (is_parting(S, 2, 0, 0, (1, 1)), is_parting(S, 2, 0, 0, (0, 1)), three_numbers(S, 2, 0, 0, (1, 1)))
+        self.assertEqual(told, (True, False, ((2, 1), (3, 2), (5, 4))))
+
     def test_e04(self):
         told = (verdicts(R, 1), least_way(R, 1, 0, 0))
         expected = (((((0, 1),), ((1, 1),)), (((-1, 1),), ((0, 1),))), ((0, 1, 0), ((), ())))
@@ -34,10 +43,17 @@ class ExamplesTest(unittest.TestCase):
         told = outcome(R, ((((0, 1), (1, 2)), ((1, 2), (0, 1))),), 1)
         self.assertEqual(told, (((1, 3), (2, 3)), ((2, 3), (1, 3))))
 
+    def test_e06(self):
+        units = {(1, 0, 1): ((1, 1),), (0, 0, 1): ((1, 1),), (0, 1, 0): ((-1, 1),)}
+        heights = {(1, 0, 0): ((0, 1),), (1, 0, 1): ((1, 1),)}
+        self.assertIs(is_table(R, 1, 0, 1, (units, heights)), True)
+
+    def test_e07(self):
+        self.assertEqual((many_placings(A), determinant_verdict(A), live(A)), (1, ((0, 1), (-2, 1)), [(0, 1), (1, 0)]))
+
     def test_the_grids_above_it(self):
-        a = Grid(2, ((None, N), (((0, 1), (-2, 1)), ((0, 1), (-1, 1)))))
-        self.assertEqual([cell(a, 0, 0), cell(a, 0, 1)], [None, N])
-        self.assertEqual([cell(a, 1, 0), cell(a, 1, 1)], [((0, 1), (-2, 1)), ((0, 1), (-1, 1))])
+        self.assertEqual([cell(A, 0, 0), cell(A, 0, 1)], [None, N])
+        self.assertEqual([cell(A, 1, 0), cell(A, 1, 1)], [((0, 1), (-2, 1)), ((0, 1), (-1, 1))])
         grids = [Grid(2, ((M, V),)), Grid(2, ((N,), (N,))), Grid(1, ((None, ((1, 1),)), (((-1, 1),), None)))]
         self.assertEqual([grid.bases for grid in grids], [2, 2, 1])
         self.assertEqual([grid.rows for grid in grids[:2]], [((M, V),), ((N,), (N,))])

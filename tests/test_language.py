@@ -120,7 +120,7 @@ class LanguageTest(unittest.TestCase):
                 local = {node.arg for node in ast.walk(function) if isinstance(node, ast.arg)}
                 local |= {node.id for node in ast.walk(function)
                           if isinstance(node, ast.Name) and not isinstance(node.ctx, ast.Load)}
-                self.assertFalse(local & set(bound + classes + plain), (path, function.name))
+                self.assertFalse(local & set(bound + classes), (path, function.name))
                 self.assertFalse(local & BARRED_NAMES, (path, function.name))
 
     def test_imports_name_the_defining_file(self):

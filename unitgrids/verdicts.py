@@ -46,6 +46,15 @@ def _told(found, scale):
     return unit_of(found, scale)
 
 
+def verdict_grids(script, at):
+    """The rows of verdicts on each grid up to one; None for those of which that one is not made."""
+    scale = bottom_of(script)
+    grids = []
+    for rows in Verdicts(script).grids_to(script, at):
+        grids.append(None if rows is None else [[_told(found, scale) for found in row] for row in rows])
+    return grids
+
+
 def verdict(script, at, i, j):
     """The unit that a cell has, None if it has none; "nought" for a nought."""
     check_cell(script, at, i, j)
