@@ -4,8 +4,11 @@ import unittest
 
 from unitgrids.determinants import determinant_verdict
 from unitgrids.grids import Grid, bottom, cell
+from unitgrids.inverses import inverse_verdicts
+from unitgrids.owns import own_polynomial, own_verdict
 from unitgrids.partings import is_parting, three_numbers
 from unitgrids.placings import live, many_placings
+from unitgrids.powers import keeps, power_verdict
 from unitgrids.reckoning import outcome
 from unitgrids.scripts import Script, shape
 from unitgrids.tables import is_table
@@ -50,6 +53,16 @@ class ExamplesTest(unittest.TestCase):
 
     def test_e07(self):
         self.assertEqual((many_placings(A), determinant_verdict(A), live(A)), (1, ((0, 1), (-2, 1)), [(0, 1), (1, 0)]))
+
+    def test_e08(self):
+        self.assertEqual(inverse_verdicts(A), ((((0, 1), (1, 1)), ((0, 1), (2, 1))), (N, "nought")))
+
+    def test_e09(self):
+        told = (own_verdict(A), keeps(A), power_verdict(A, 2, 1, 1))
+        self.assertEqual(told, (((0, 1), (-1, 1)), True, ((0, 1), (-2, 1))))
+
+    def test_e10(self):
+        self.assertEqual(own_polynomial((((0, 1), (1, 1)), ((-6, 1), (5, 1)))), ((1, 1), (-5, 1), (6, 1)))
 
     def test_the_grids_above_it(self):
         self.assertEqual([cell(A, 0, 0), cell(A, 0, 1)], [None, N])

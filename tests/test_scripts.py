@@ -9,7 +9,7 @@ from tests import oracle
 from tests.things import deep_list, deep_tuple, fails_with, wrong_numbers, wrong_things
 from unitgrids.errors import BadScript, NoCell, NoGrid, NoOrder, NoUnit
 from unitgrids.grids import Grid
-from unitgrids.scripts import (Script, _fitting_script, bottom_of, is_nought, many_grids, renamed, retold_in,
+from unitgrids.scripts import (Script, bottom_of, fitting_script, is_nought, many_grids, renamed, retold_in,
                                shape, with_step)
 
 U = ((1, 1),)
@@ -385,7 +385,7 @@ class GreatScriptTest(unittest.TestCase):
 
     def great(self, many):
         steps = tuple(("plus", k, k) for k in range(many))
-        return _fitting_script((ONE,), steps, ((1, 1),) * (many + 1))
+        return fitting_script((ONE,), steps, ((1, 1),) * (many + 1))
 
     def test_no_depth(self):
         script = self.great(3000)
@@ -398,7 +398,7 @@ class GreatScriptTest(unittest.TestCase):
 
     def test_many_grids_that_are_put_in(self):
         grids = tuple(full(1, 1, ((k % 7, 1),)) for k in range(20))
-        script = _fitting_script(grids, (("plus", 0, 19),), ((1, 1),) * 21)
+        script = fitting_script(grids, (("plus", 0, 19),), ((1, 1),) * 21)
         found = renamed(script, tuple(reversed(range(20))))
         self.assertEqual((found.grids, found.steps), (grids[::-1], (("plus", 19, 0),)))
         self.assertEqual(retold_in(script, 19, 0, 0, None).grids[:19], grids[:19])

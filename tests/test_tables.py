@@ -10,7 +10,7 @@ from tests import oracle
 from tests.things import as_python, deep_dict, deep_list, deep_tuple, fails_with, wrong_numbers, wrong_things
 from unitgrids.errors import NoCell, NoGrid
 from unitgrids.grids import Grid
-from unitgrids.scripts import Script, _fitting_script, many_grids, shape
+from unitgrids.scripts import Script, fitting_script, many_grids, shape
 from unitgrids.tables import is_table, table
 from unitgrids.units import is_unit
 
@@ -361,7 +361,7 @@ class AllTest(unittest.TestCase):
 
     def test_no_depth(self):
         many = 2500
-        script = _fitting_script((Grid(1, ((N,),)),), tuple(("plus", k, 0) for k in range(many)), ((1, 1),) * (many + 1))
+        script = fitting_script((Grid(1, ((N,),)),), tuple(("plus", k, 0) for k in range(many)), ((1, 1),) * (many + 1))
         pair = table(script, many, 0, 0)
         self.assertEqual(len(pair[0]), many + 1)
         self.assertIs(is_table(script, many, 0, 0, pair), True)

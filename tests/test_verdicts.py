@@ -9,7 +9,7 @@ from tests import oracle
 from tests.things import deep_list, deep_tuple, fails_with, wrong_numbers, wrong_things
 from unitgrids.errors import NoCell, NoGrid, TooLong
 from unitgrids.grids import Grid
-from unitgrids.scripts import Script, _fitting_script, is_nought, many_grids, retold_in, shape
+from unitgrids.scripts import Script, fitting_script, is_nought, many_grids, retold_in, shape
 from unitgrids.verdicts import (is_two_ways, least_length, least_way, needed, two_ways, unlike_length, verdict,
                                 verdicts)
 from unitgrids.ways import bag, is_way, way_unit
@@ -196,13 +196,13 @@ class VerdictTest(unittest.TestCase):
         many = 2500
         grids = (one_by_one(M), one_by_one(N))
         steps = tuple(("times" if k % 2 else "plus", k, 1) for k in range(1, many + 1))
-        script = _fitting_script(grids, steps, ((1, 1),) * (many + 2))
+        script = fitting_script(grids, steps, ((1, 1),) * (many + 2))
         self.assertEqual(verdict(script, many + 1, 0, 0), N)
         self.assertEqual(least_length(script, many + 1, 0, 0), 1)
         way = least_way(script, many + 1, 0, 0)
         self.assertIs(is_way(script, many + 1, 0, 0, way), True)
         self.assertEqual(len(needed(script, many + 1, 0, 0)), many + 1)
-        again = _fitting_script(grids, (("times", 0, 1),) + tuple(("plus", k, 0) for k in range(2, many + 2)),
+        again = fitting_script(grids, (("times", 0, 1),) + tuple(("plus", k, 0) for k in range(2, many + 2)),
                                 ((1, 1),) * (many + 3))
         pair = two_ways(retold_in(again, 1, 0, 0, H), many + 2, 0, 0)
         self.assertIs(is_two_ways(retold_in(again, 1, 0, 0, H), many + 2, 0, 0, pair), True)

@@ -11,7 +11,7 @@ from tests.things import as_pair, deep_list, deep_tuple, fails_with, wrong_numbe
 from unitgrids.errors import NoCell, NoGrid, NoNumber, NoValues, NoWay, TooMany
 from unitgrids.grids import Grid
 from unitgrids.reckoning import outcome
-from unitgrids.scripts import Script, _fitting_script, many_grids, shape
+from unitgrids.scripts import Script, fitting_script, many_grids, shape
 from unitgrids.ways import bag, is_way, many_ways, way_unit, ways, worth
 
 M = ((1, 1), (0, 1))
@@ -173,7 +173,7 @@ class BagTest(unittest.TestCase):
 
     def test_no_depth(self):
         many = 2500
-        script = _fitting_script((ONE,), tuple(("plus", k, 0) for k in range(many)), ((1, 1),) * (many + 1))
+        script = fitting_script((ONE,), tuple(("plus", k, 0) for k in range(many)), ((1, 1),) * (many + 1))
         way = ()
         for _ in range(many):
             way = (0, way)

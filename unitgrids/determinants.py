@@ -1,12 +1,10 @@
 """Determinants, and which of them have a unit, by placings and by sides."""
 
-from math import lcm
-
 from unitgrids.errors import NoSquare
-from unitgrids.exact import is_fraction, is_pair, lowest
-from unitgrids.grids import MOST_ROWS, bottom
+from unitgrids.exact import as_wholes, is_fraction, is_pair, lowest
+from unitgrids.grids import MOST_ROWS, bottom, scaled_rows
 from unitgrids.placings import check_square, free_columns, is_placing, live, placed_lots
-from unitgrids.units import by_unit, exponents, is_unit, times_unit, together, unit_of
+from unitgrids.units import by_unit, is_unit, times_unit, together, unit_of
 
 NOUGHT = "nought"
 
@@ -36,15 +34,13 @@ def determinant(numbers):
     rows = []
     below = 1
     for row in numbers:
-        common = 1
-        for number in row:
-            common = lcm(common, number[1])
-        rows.append([top * (common // under) for top, under in row])
+        wholes, common = as_wholes(row)
+        rows.append(wholes)
         below = below * common
-    return lowest(_whole_determinant(rows), below)
+    return lowest(whole_determinant(rows), below)
 
 
-def _whole_determinant(rows):
+def whole_determinant(rows):
     """The determinant of rows of integers, all reckoned in integers."""
     sign = 1
     before = 1
@@ -64,7 +60,7 @@ def _whole_determinant(rows):
     return sign * before
 
 
-def _unlike_placings(grid):
+def unlike_placings(grid):
     """Up to two pairs (scaled exponents, placing), of unlike units: one for a unit, none for a nought.
 
     From the last row on, two of unlike units are kept for each lot of columns that the rows ahead
@@ -73,9 +69,9 @@ def _unlike_placings(grid):
     scale = bottom(grid)
     lots = placed_lots(grid)
     ends = {lot: [((0,) * grid.bases, ())] for lot in lots[-1]}
+    scaled = scaled_rows(grid, scale, None)
     for i in reversed(range(len(grid.rows))):
-        scaled = [None if unit is None else exponents(unit, scale) for unit in grid.rows[i]]
-        ends = {taken: _unlike_ends(scaled, taken, ends) for taken in lots[i]}
+        ends = {taken: _unlike_ends(scaled[i], taken, ends) for taken in lots[i]}
     return ends[0]
 
 
@@ -93,7 +89,7 @@ def _unlike_ends(scaled, taken, ends):
 def determinant_verdict(grid):
     """The unit that the determinant has, None if it has none; "nought" without a placing."""
     check_square(grid)
-    found = _unlike_placings(grid)
+    found = unlike_placings(grid)
     if len(found) == 0:
         return NOUGHT
     if len(found) == 2:
@@ -104,7 +100,7 @@ def determinant_verdict(grid):
 def two_placings(grid):
     """A pair of placings of unlike units, None if there are none."""
     check_square(grid)
-    found = _unlike_placings(grid)
+    found = unlike_placings(grid)
     if len(found) < 2:
         return None
     return (found[0][1], found[1][1])

@@ -1,6 +1,6 @@
 """The package's helper: integers and fractions, which are pairs (top, bottom) in lowest terms."""
 
-from math import gcd
+from math import gcd, lcm
 
 
 def is_whole(thing):
@@ -63,6 +63,14 @@ def sum_of_products(pairs):
         bottom = bottom * (below // common)
     # Great numbers are slow to be brought to lowest terms: so this is done once, not for each part.
     return lowest(top, bottom)
+
+
+def as_wholes(fractions):
+    """Integers, and the integer from 1 on by which these are to be divided to give the fractions."""
+    common = 1
+    for fraction in fractions:
+        common = lcm(common, fraction[1])
+    return ([top * (common // bottom) for top, bottom in fractions], common)
 
 
 def whole_power(number, power):

@@ -4,7 +4,7 @@ from math import lcm
 
 from unitgrids.errors import BadGrid, NoCell, NoNumbers, NoRoots, NoUnit
 from unitgrids.exact import is_above_nought, is_fraction, is_index, is_whole, times
-from unitgrids.units import MOST_BASES, are_roots, factor, is_unit
+from unitgrids.units import MOST_BASES, are_roots, exponents, factor, is_unit
 
 MOST_ROWS = 10
 MOST_TOP = 6
@@ -90,6 +90,11 @@ def bottom(grid):
         for exponent in unit:
             multiple = lcm(multiple, exponent[1])
     return multiple
+
+
+def scaled_rows(grid, scale, nought):
+    """The rows of the units' exponents, each times a scale that fits, and of what is told for noughts."""
+    return [[nought if unit is None else exponents(unit, scale) for unit in row] for row in grid.rows]
 
 
 def _has_shape(grid, thing):

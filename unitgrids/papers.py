@@ -3,12 +3,11 @@
 Two are enough for what is made of them. A way with another unit than the shortest one has a part
 with another unit than the shortest such part has, and with a shortest part of that kind, all
 others being shortest ones, it has another unit, too, and is no longer. A paper is a triple
-(length, scaled exponents, way). Ways may share their parts, and are never compared: a way that is
-made of few parts may be of a length that could not be gone through.
+(length, scaled exponents, what is told of the way). Ways may share their parts, and are never
+compared: a way that is made of few parts may be of a length that could not be gone through.
 """
 
 from unitgrids.cells import Cells
-from unitgrids.scripts import bases_of, bottom_of
 from unitgrids.units import exponents, together
 
 EMPTY_PATH = ((), ())
@@ -25,13 +24,6 @@ def _best_two(papers):
         if paper[1] != best[1] and (unlike is None or paper[0] < unlike[0]):
             unlike = paper
     return [paper for paper in (best, unlike) if paper is not None]
-
-
-def _joined(one, other):
-    """The paper of a path that goes on with another one: paths are (places, legs)."""
-    places, legs = one[2]
-    further, more = other[2]
-    return (one[0] + other[0], together(one[1], other[1]), (places + further[1:], legs + more))
 
 
 def _with_side(side, rows):
@@ -53,26 +45,56 @@ def _as_products(papers):
     return [(length, unit, (places[1],) + legs) for length, unit, (places, legs) in papers]
 
 
-class Papers(Cells):
-    """The papers of each cell, one for what has a unit, two for what has none."""
+class Shortest(Cells):
+    """The papers of each cell, one for what has a unit, two for what has none.
 
-    def __init__(self, script):
+    The classes below this one say what is told of the ways: of a cell that is put in, of two ways
+    that are joined, and of no way at all, which goes around a place of a star not even once.
+    """
+
+    def __init__(self, bases, scale, standing):
         self.nought = []
-        self.scale = bottom_of(script)
-        self.unitless = (0,) * bases_of(script)
+        self.scale = scale
+        self.unitless = (0,) * bases
+        self.standing = standing
+
+    def told_cell(self, number, i, j):
+        """What is told of the way that is a cell that is put in."""
+        return self.standing
+
+    def joined(self, one, other):
+        """What is told of two ways that are joined."""
+        return self.standing
 
     def put_in(self, number, i, j, unit):
-        return [(1, exponents(unit, self.scale), ())]
+        return [(1, exponents(unit, self.scale), self.told_cell(number, i, j))]
 
     def sum_of(self, one, other):
         return _best_two(one + other)
 
     def product_of(self, one, other):
-        return _best_two([_joined(first, second) for first in one for second in other])
+        return _best_two([(length + more, together(unit, further), self.joined(first, second))
+                          for length, unit, first in one for more, further, second in other])
 
     def powers_of(self, one):
         # Of all numbers of rounds, none is the shortest, and the shortest of another unit is one round.
-        return [(0, self.unitless, EMPTY_PATH)] + [paper for paper in one if paper[1] != self.unitless][:1]
+        around = [paper for paper in one if paper[1] != self.unitless]
+        return [(0, self.unitless, self.standing)] + around[:1]
+
+
+class Papers(Shortest):
+    """Papers with the ways themselves; within products and stars with paths, which are (places, legs)."""
+
+    def __init__(self, bases, scale):
+        Shortest.__init__(self, bases, scale, EMPTY_PATH)
+
+    def told_cell(self, number, i, j):
+        return ()
+
+    def joined(self, one, other):
+        places, legs = one
+        further, more = other
+        return (places + further[1:], legs + more)
 
     def sums(self, one, other):
         return super().sums(_with_side(0, one), _with_side(1, other))

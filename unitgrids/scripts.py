@@ -52,7 +52,7 @@ def _shapes_made(shapes, steps):
     return tuple(found)
 
 
-def _fitting_script(grids, steps, shapes):
+def fitting_script(grids, steps, shapes):
     """A Script of what is known to fit, which may be greater than one that is constructed."""
     script = Script(grids[:1], ())
     script.grids = grids
@@ -111,7 +111,7 @@ def retold_in(script, at, i, j, thing):
         raise NoGrid()
     grids = list(script.grids)
     grids[at] = retold(grids[at], i, j, thing)
-    return _fitting_script(tuple(grids), script.steps, script.shapes)
+    return fitting_script(tuple(grids), script.steps, script.shapes)
 
 
 def with_step(script, step):
@@ -121,7 +121,7 @@ def with_step(script, step):
     made = made_shape(script.shapes, step)
     if made is None:
         raise BadScript(len(script.steps))
-    return _fitting_script(script.grids, script.steps + (step,), script.shapes + (made,))
+    return fitting_script(script.grids, script.steps + (step,), script.shapes + (made,))
 
 
 def _is_order(thing, many):
@@ -148,4 +148,4 @@ def renamed(script, order):
     steps = tuple([_renumbered_step(step, numbers) for step in script.steps])
     grids = tuple([script.grids[old] for old in order])
     shapes = tuple([script.shapes[old] for old in order]) + script.shapes[many:]
-    return _fitting_script(grids, steps, shapes)
+    return fitting_script(grids, steps, shapes)

@@ -88,3 +88,8 @@ def unit_of(scaled, scale):
 def together(one, other):
     """The sums of two units' scaled exponents."""
     return tuple([first + second for first, second in zip(one, other)])
+
+
+def without(one, other):
+    """The first unit's scaled exponents less the second one's."""
+    return tuple([first - second for first, second in zip(one, other)])

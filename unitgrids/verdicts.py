@@ -16,10 +16,10 @@ MOST_LENGTH = 2000
 class Verdicts(Cells):
     """The verdict on each cell, units by their scaled exponents."""
 
-    def __init__(self, script):
+    def __init__(self, bases, scale):
         self.nought = NOUGHT
-        self.scale = bottom_of(script)
-        self.unitless = (0,) * bases_of(script)
+        self.scale = scale
+        self.unitless = (0,) * bases
 
     def put_in(self, number, i, j, unit):
         return exponents(unit, self.scale)
@@ -39,39 +39,44 @@ class Verdicts(Cells):
         return self.unitless if one == NOUGHT or one == self.unitless else None
 
 
-def _told(found, scale):
+def told_verdict(found, scale):
     """A verdict as callers are told it."""
     if found is None or found == NOUGHT:
         return found
     return unit_of(found, scale)
 
 
+def told_verdicts(rows, scale):
+    """The tuple of rows of verdicts as callers are told them."""
+    return tuple([tuple([told_verdict(found, scale) for found in row]) for row in rows])
+
+
+def _scaled_grids(script, at):
+    """The rows of verdicts, units scaled, on each grid up to one; None where that one is not made of it."""
+    return Verdicts(bases_of(script), bottom_of(script)).grids_to(script, at)
+
+
 def verdict_grids(script, at):
     """The rows of verdicts on each grid up to one; None for those of which that one is not made."""
     scale = bottom_of(script)
-    grids = []
-    for rows in Verdicts(script).grids_to(script, at):
-        grids.append(None if rows is None else [[_told(found, scale) for found in row] for row in rows])
-    return grids
+    return [None if rows is None else told_verdicts(rows, scale) for rows in _scaled_grids(script, at)]
 
 
 def verdict(script, at, i, j):
     """The unit that a cell has, None if it has none; "nought" for a nought."""
     check_cell(script, at, i, j)
-    return _told(Verdicts(script).grids_to(script, at)[at][i][j], bottom_of(script))
+    return told_verdict(_scaled_grids(script, at)[at][i][j], bottom_of(script))
 
 
 def verdicts(script, at):
     """The tuple of rows of the verdicts on a grid's cells."""
     check_grid(script, at)
-    scale = bottom_of(script)
-    rows = Verdicts(script).grids_to(script, at)[at]
-    return tuple([tuple([_told(found, scale) for found in row]) for row in rows])
+    return told_verdicts(_scaled_grids(script, at)[at], bottom_of(script))
 
 
 def papers_of(script, at, i, j):
     """The papers of a cell."""
-    return Papers(script).grids_to(script, at)[at][i][j]
+    return Papers(bases_of(script), bottom_of(script)).grids_to(script, at)[at][i][j]
 
 
 def least_length(script, at, i, j):
