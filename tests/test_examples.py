@@ -1,10 +1,12 @@
-"""The document's examples, as far as their points have landed."""
+"""The document's examples."""
 
 import unittest
 
+from unitgrids.books import Book
 from unitgrids.determinants import determinant_verdict
 from unitgrids.grids import Grid, bottom, cell
 from unitgrids.inverses import inverse_verdicts
+from unitgrids.lines import line_text, read_line
 from unitgrids.owns import own_polynomial, own_verdict
 from unitgrids.partings import is_parting, three_numbers
 from unitgrids.placings import live, many_placings
@@ -63,6 +65,17 @@ class ExamplesTest(unittest.TestCase):
 
     def test_e10(self):
         self.assertEqual(own_polynomial((((0, 1), (1, 1)), ((-6, 1), (5, 1)))), ((1, 1), (-5, 1), (6, 1)))
+
+    def test_e11(self):
+        b = Book(1)
+        told = (b.do("put a = . 1 ; -1 ."), b.do("let s = star(a) * a"), b.answer("s")[0][0], b.do("put a = . 1 ; 0 ."),
+                b.why("s", 0, 1) is None)
+        self.assertEqual(told, (["a"], ["s"], ((0, 1),), ["a", "s"], False))
+
+    def test_e12(self):
+        tree = ("let", "x", ("times", ("plus", ("name", "a"), ("name", "b")), ("star", ("name", "c"))))
+        expected = (("let", "x", ("plus", ("name", "a"), ("times", ("turned", ("name", "b")), ("name", "c")))), "let x = (a + b) * star(c)")
+        self.assertEqual((read_line(1, "let x = a + b' * c"), line_text(tree)), expected)
 
     def test_the_grids_above_it(self):
         self.assertEqual([cell(A, 0, 0), cell(A, 0, 1)], [None, N])

@@ -170,9 +170,40 @@ class LanguageTest(unittest.TestCase):
             for word in words:
                 self.assertIsNone(BARRED_WORDS.search(word), (name, word))
 
+    def test_only_own_errors_are_caught(self):
+        own = {node.name for name, node in nodes() if name == "errors.py" and isinstance(node, ast.ClassDef)}
+        for name, node in nodes():
+            if isinstance(node, ast.Try):
+                self.assertEqual((node.orelse, node.finalbody), ([], []), name)
+                self.assertLessEqual({ast.unparse(handler.type) for handler in node.handlers}, own, name)
+
+    def test_what_is_iterated_at_once_is_not_passed_on(self):
+        """ranges, zips and the like stand in loops, comprehensions and few builtins, or are kept as a range."""
+        once = {"range", "zip", "enumerate", "reversed"}
+        takers = {"list", "tuple", "dict", "sorted", "sum", "enumerate", "zip", "any", "all", "min", "max",
+                  "product", "combinations", "permutations"}
+        for name, node in nodes():
+            parts, taker = [], ""
+            if isinstance(node, ast.Call):
+                taker = node.func.id if isinstance(node.func, ast.Name) else ""
+                allowed = takers | ({"reversed", "len"} if taker in ("reversed", "len") else set())
+                parts = node.args if taker not in allowed else []
+            elif isinstance(node, (ast.Tuple, ast.List)):
+                parts = node.elts
+            elif isinstance(node, (ast.Return, ast.Assign)):
+                parts = [node.value]
+            elif isinstance(node, ast.Dict):
+                parts = node.values
+            for part in parts:
+                if isinstance(part, ast.Call):
+                    called = part.func.id if isinstance(part.func, ast.Name) else getattr(part.func, "attr", "")
+                    kept = called == "range" and (isinstance(node, ast.Assign) or taker in ("reversed", "len"))
+                    barred = called in once or (called in ("items", "keys", "values") and not isinstance(part.func, ast.Name))
+                    self.assertFalse(barred and not kept, (name, part.lineno))
+
     def test_operators(self):
         for name, node in nodes():
-            self.assertNotIsInstance(node, (ast.Set, ast.GeneratorExp, ast.Yield, ast.YieldFrom, ast.Try), name)
+            self.assertNotIsInstance(node, (ast.Set, ast.GeneratorExp, ast.Yield, ast.YieldFrom), name)
             if isinstance(node, ast.Compare):
                 for sign, side in zip(node.ops, node.comparators):
                     if isinstance(sign, (ast.Is, ast.IsNot)):

@@ -6,9 +6,11 @@ more than the second one, which both came by the pair ahead of it; the pair ahea
 index of its own trace, None at the beginning.
 """
 
+from math import gcd
+
 from unitgrids.determinants import check_square_numbers
 from unitgrids.errors import NoCell, NoNumber
-from unitgrids.exact import as_wholes, is_index, is_pair, is_whole, lowest, whole_power
+from unitgrids.exact import as_wholes, is_index, is_pair, is_whole, lowest
 from unitgrids.grids import bottom, scaled_rows
 from unitgrids.placings import check_square
 from unitgrids.steps import turned
@@ -31,15 +33,14 @@ def power(numbers, many):
     _check_power(many, MOST_POWER)
     size = len(numbers)
     wholes, common = as_wholes([number for row in numbers for number in row])
-    rows = _whole_power([wholes[size * i:size * i + size] for i in range(size)], many)
-    below = whole_power(common, many)
+    rows, below = _whole_power([wholes[size * i:size * i + size] for i in range(size)], common, many)
     return tuple([tuple([lowest(number, below) for number in row]) for row in rows])
 
 
-def _whole_power(rows, many):
-    """A power, from the first one on, of rows of integers."""
+def _whole_power(rows, below, many):
+    """A power, from the first one on, of rows of integers that are to be divided by one; likewise."""
     result = None
-    square = rows
+    square = (rows, below)
     left = many
     while left > 0:
         if left % 2 == 1:
@@ -50,9 +51,20 @@ def _whole_power(rows, many):
     return result
 
 
-def _product(rows, others):
-    columns = turned(others)
-    return [[sum([one * other for one, other in zip(row, column)]) for column in columns] for row in rows]
+def _product(one, other):
+    """The product of rows of integers that are to be divided by one; without what all have in common."""
+    columns = turned(other[0])
+    below = one[1] * other[1]
+    rows = []
+    common = below
+    for row in one[0]:
+        rows.append([sum([first * second for first, second in zip(row, column)]) for column in columns])
+        for number in rows[-1]:
+            # With bottoms of many digits great parts fall away here, and all that follows is faster.
+            common = gcd(common, number) if common > 1 else 1
+    if common == 1:
+        return (rows, below)
+    return ([[number // common for number in row] for row in rows], below // common)
 
 
 def power_verdict(grid, many, i, j):
