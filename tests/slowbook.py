@@ -26,29 +26,23 @@ class UnitSets:
     def times(self, one, other):
         return self.two({tuple(x + y for x, y in zip(first, second)) for first in one for second in other})
 
-    def star(self, rows):
+    def star_of(self, rows):
         found = rows
         for _ in range(3 * len(rows) + 2):
             found = sums(self, rows, products(self, rows, found))
         return found
 
 
-class Numbers:
+class Numbers(oracle.Outcomes):
     """Cells are outcomes."""
 
     nought = Fraction(0)
 
-    def plus(self, one, other):
-        return "endless" if "endless" in (one, other) else one + other
+    def __init__(self):
+        pass
 
-    def times(self, one, other):
-        if 0 in (one, other):
-            return Fraction(0)
-        return "endless" if "endless" in (one, other) else one * other
-
-    def star(self, rows):
-        reckoned = object.__new__(oracle.Outcomes)
-        return [[reckoned.star(rows, i, j) for j in range(len(rows))] for i in range(len(rows))]
+    def star_of(self, rows):
+        return [[self.star(rows, i, j) for j in range(len(rows))] for i in range(len(rows))]
 
 
 def sums(algebra, one, other):
@@ -168,7 +162,7 @@ class SlowBook:
         if high != wide:
             return None
         if kind == "star":
-            return algebra.star(one)
+            return algebra.star_of(one)
         found = one
         for _ in range(tree[2] - 1):
             found = products(algebra, found, one)
@@ -277,7 +271,8 @@ def random_put(chance, name, bases):
     heights = [chance.randint(-1, 1) for _ in range(10)]
     rows = []
     for i in range(high):
-        rows.append(" ".join("." if chance.random() < 0.3 else ",".join(str(heights[i] - heights[j]) if chance.random() < 0.9 else "1/2" for _ in range(bases))
+        rows.append(" ".join("." if chance.random() < 0.3 else ",".join(str(heights[i] - heights[j]) if chance.random() < 0.9 else chance.choice(("1/2", "-2/3", "3/4"))
+                                                                             for _ in range(bases))
                              for j in range(wide)))
     return f"put {name} = " + " ; ".join(rows)
 

@@ -106,7 +106,7 @@ class SessionTest(unittest.TestCase):
 
     def test_why(self):
         shown = 0
-        for chance, slow, book in self.sessions(6000, 25, 40):
+        for chance, slow, book in self.sessions(6000, 50, 40):
             for name, answer in answers(book).items() if chance.random() < 0.4 else ():
                 if answer[0] in FAULTS:
                     fails_with(self, NoAnswer, lambda: book.why(name, 0, 0))
@@ -315,6 +315,7 @@ class FaultTest(unittest.TestCase):
         book = told(1, "put put = 1 . ; 0 -1/2", "let let = put'", "let def = put * let")
         self.assertEqual(book.answer("put"), ((M, "nought"), (N, ((-1, 2),))))
         self.assertEqual(book.answer("let"), ((M, N), ("nought", ((-1, 2),))))
+        self.assertEqual(book.answer("def"), ((((2, 1),), M), (M, None)))
         self.assertEqual(book.text(), "let def = put * let\nlet let = put'\nput put = 1 . ; 0 -1/2\n")
 
     def test_leads(self):
@@ -384,6 +385,17 @@ class WhyTest(unittest.TestCase):
             script = book.script(name)
             self.assertEqual(len(script.grids), put)
             self.assertEqual(verdicts(script, many_grids(script) - 1), book.answer(name))
+
+    def test_what_is_named_twice_is_made_once(self):
+        letters = "abcdefghijklmnopqrstuvwxyz"
+        book = told(1, "put a = 1/3")
+        for one, other in zip(letters, letters[1:]):
+            book.do(f"let {other} = {one} * {one}")
+        self.assertEqual(len(book.script("z").steps), 25)
+        self.assertEqual(book.answer("z"), ((((2 ** 25, 3),),),))
+        self.assertEqual(book.outcome("z", {"a": (((1, 1),),)}), (((1, 1),),))
+        book.do("put a = 1/3 . ; 1/4 -5/4")
+        self.assertEqual(book.answer("b"), ((((2, 3),), "nought"), (None, ((-5, 2),))))
 
     def test_script_greater_than_one_that_is_constructed(self):
         lines = [f"put {letter} = 0" for letter in "abcdefgh"]
@@ -505,14 +517,16 @@ class LimitTest(unittest.TestCase):
 
     def test_long_histories_beside_what_takes_long(self):
         book = Book(2)
-        rows = " ; ".join(" ".join(f"{(i - j) % 3 - 1},0" for j in range(10)) for i in range(10))
+        rows = " ; ".join(" ".join(f"{i % 3 - j % 3},0" for j in range(10)) for i in range(10))
         book.do("put a = " + rows)
-        book.do("let xa = a")
+        book.do("put d = " + " ".join(["1,1"] * 10))
+        book.do("let xa = (a / d)[0, 0, 10, 10]")
         start = time.perf_counter()
         for k in range(1, 120):
             one, other = (f"x{chr(97 + j % 26)}{'y' * (j // 26)}" for j in (k, k - 1))
-            book.do(f"let {one} = star({other}) * a + a^10 | {other}[0, 0, 10, 2]")
+            book.do(f"let {one} = star({other}) * a + a^10 | {other}[0, 0, 10, 2]" if k == 119 else f"let {one} = star({other}) * a + a^10")
         built = time.perf_counter() - start
+        self.assertEqual(book.answer(one)[3][4], ((-1, 1), (0, 1)))
         start = time.perf_counter()
         for k in range(600):
             book.do(f"let z = a + {'a' if k % 2 else 'xa'}")
@@ -524,8 +538,14 @@ class LimitTest(unittest.TestCase):
         for _ in range(300):
             book.do("undo")
         self.assertLess(time.perf_counter() - start, built + 10)
+        # Nor is what goes back on something that has the same answer as ahead.
+        start = time.perf_counter()
+        for k in range(300):
+            self.assertEqual(book.do("put d = " + " ".join([f"{k % 5},0"] * 10)), ["d"])
+            self.assertEqual(book.do("let xa = a'' " if k % 2 else "let xa = a"), [])
+        self.assertLess(time.perf_counter() - start, built + 10)
         # What was reckoned is not reckoned anew for what is taken back.
-        book.do("put a = " + rows.replace("0,0", "1,1"))
+        self.assertGreater(len(book.do("put a = " + rows.replace("0,0", "1,1"))), 100)
         start = time.perf_counter()
         for _ in range(100):
             book.do("undo")

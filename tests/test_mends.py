@@ -68,6 +68,27 @@ class NoughtsTest(unittest.TestCase):
         self.assertGreater(min(sizes.get(size, 0) for size in ("none", 0, 1, 2)), 10)
         self.assertGreater(sizes.get(3, 0), 0)
 
+    def test_lots_that_leave_no_way(self):
+        """Paths beside one another: many lots cut them all."""
+        chance = random.Random(206)
+        sizes = {}
+        for _ in range(150):
+            many = chance.choice((4, 5))
+            cells = [(p, q) for p in range(many) for q in range(many)]
+            chance.shuffle(cells)
+            rows = [[None] * many for _ in range(many)]
+            for p, q in cells[:chance.randint(6, 11)]:
+                rows[p][q] = chance.choice((N, N, N, M))
+            grid = Grid(1, tuple(tuple(row) for row in rows))
+            script = Script((grid,), (("star", 0), ("times", 1, 1))[:chance.randint(1, 2)])
+            at = len(script.steps)
+            i, j = chance.randrange(many), chance.randrange(many)
+            expected = slow_noughts(script, at, i, j, 3)
+            self.assertEqual(fewest_noughts(script, at, i, j, 3), expected)
+            size = "none" if expected is None else len(expected)
+            sizes[size] = sizes.get(size, 0) + 1
+        self.assertGreater(min(sizes.get(size, 0) for size in ("none", 0, 1, 2, 3)), 2)
+
     def test_by_hand(self):
         script = Script((Grid(1, ((M, D, N),)), Grid(1, ((N,), (N,), (N,)))), (("times", 0, 1),))
         self.assertEqual(fewest_noughts(script, 2, 0, 0, 3), ((0, 0, 0), (0, 0, 1)))

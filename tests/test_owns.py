@@ -240,6 +240,16 @@ class JudgedTest(unittest.TestCase):
         for thing in wrong_things() + wrong:
             self.assertIs(is_two_rings(grid, thing), False, thing)
 
+    def test_two_rings_of_unlike_lengths(self):
+        grid = Grid(1, ((M, M, N), (M, None, N), (None, None, N)))
+        # Unlike weights, but alike for their lengths; and the other way about.
+        self.assertIs(is_two_rings(grid, ((0,), (0, 1))), False)
+        self.assertIs(is_two_rings(grid, ((0, 1), (0,))), False)
+        self.assertIs(is_two_rings(grid, ((0, 1), (2,))), True)
+        grid = Grid(1, ((M, H), (H, None)))
+        self.assertIs(is_two_rings(grid, ((0,), (0, 1))), True)
+        self.assertIs(is_two_rings(grid, ((0, 1), (0,))), True)
+
     def test_heights(self):
         grid = Grid(1, ((H, M, H), (N, H, None), (None, None, None)))
         one = (H, (N, H, N))
