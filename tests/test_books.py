@@ -20,6 +20,8 @@ from unitgrids.verdicts import verdicts
 
 N, M, D = ((0, 1),), ((1, 1),), ((-1, 1),)
 FAULTS = ("round", "lacking", "kind", "spoilt", "shape")
+# The greatest number that a line tells.
+GREAT = 10 ** 40 - 1
 
 
 def told(bases, *lines):
@@ -285,8 +287,11 @@ class FaultTest(unittest.TestCase):
         self.check(("shape", "star"), "let x = star(w)")
         self.check(("shape", "power"), "let x = w^2")
         self.check(((M, M, M),), "let x = w^1")
-        for piece in ("0, 0, 1, 4", "0, 0, 2, 1", "1, 0, 1, 1", "0, 3, 1, 1", "0, 0, 0, 1", "0, 0, 1, 0", "40, 40, 40, 40"):
+        for piece in ("0, 0, 1, 4", "0, 0, 2, 1", "1, 0, 1, 1", "0, 3, 1, 1", "0, 0, 0, 1", "0, 0, 1, 0", "40, 40, 40, 40", "0, 41, 1, 1", "41, 0, 1, 1", "0, 0, 41, 1", "0, 0, 1, 41",
+                      f"{GREAT}, 0, 1, 1", f"0, {GREAT}, 1, 1", f"0, 0, {GREAT}, 1", f"0, 0, 1, {GREAT}", f"{GREAT}, {GREAT}, {GREAT}, {GREAT}"):
             self.check(("shape", "piece"), f"let x = w[{piece}]")
+            self.check(("shape", "piece"), f"def f(y) = y[{piece}]", "let x = w + f(w) + lost")
+            self.check(("spoilt", "y"), f"let y = w[{piece}]", f"let x = y[{piece}]")
         self.check(((M,),), "let x = w[0, 2, 1, 1]")
         # The first that comes, from the left, parts ahead.
         self.check(("shape", "times"), "let x = w * w + lost")
@@ -481,6 +486,36 @@ class GroupTest(unittest.TestCase):
         self.assertEqual(book.names(), ["a"])
         self.assertEqual(book.do("undo"), ["a"])
         self.assertEqual((book.names(), book.redoable()), ([], 2))
+
+
+class GreatPieceTest(unittest.TestCase):
+    """Pieces of whatever numbers are right lines; those that don't fit are faults."""
+
+    LINE = f"let x = a[0, {GREAT}, 1, 1]"
+
+    def test_lines_are_done_and_kept(self):
+        book = told(1, "put a = 1 0")
+        self.assertEqual(book.do("let x = a[0, 41, 1, 1]"), ["x"])
+        self.assertEqual((book.answer("x"), book.line("x")), (("shape", "piece"), "let x = a[0, 41, 1, 1]"))
+        # Its answer stays the same fault.
+        self.assertEqual(book.do(self.LINE), [])
+        self.assertEqual((book.line("x"), book.text()), (self.LINE, f"put a = 1 0\n{self.LINE}\n"))
+        self.assertEqual(book.do("let x = a[0, 1, 1, 1]"), ["x"])
+        self.assertEqual(book.answer("x"), ((N,),))
+        self.assertEqual(book.do("undo"), ["x"])
+        self.assertEqual((book.answer("x"), book.leads("x"), book.led_by("a")), (("shape", "piece"), ("a",), ("x",)))
+        for call in (lambda: book.why("x", 0, 0), lambda: book.outcome("x", {}), lambda: book.script("x")):
+            fails_with(self, NoAnswer, call)
+        self.assertEqual(book.do("put a = 1 ; 2"), ["a"])
+        self.assertEqual(book.do("drop a"), ["a", "x"])
+        self.assertEqual(book.answer("x"), ("lacking", "a"))
+
+    def test_wrong_lines(self):
+        book = told(1, "put a = 1 0", self.LINE)
+        kept = (book.text(), book.journal(), book.undoable())
+        for line, place in ((f"let x = a[0, {GREAT + 1}, 1, 1]", 7), ("let x = a[0, 041, 1, 1]", 7), ("let x = a[0, 41 1, 1]", 8), ("let x = a^41", 5), ("put a = 41", 3)):
+            fails_with(self, BadLine, lambda: book.do(line), place=place)
+        self.assertEqual((book.text(), book.journal(), book.undoable()), kept)
 
 
 class LimitTest(unittest.TestCase):

@@ -145,6 +145,18 @@ class RecoveredTest(unittest.TestCase):
         found, many = recovered(1, journal_of(["open", "put a = 1", "close"]))
         self.assertEqual((many, found.names(), found.undoable()), (3, ["a"], 1))
 
+    def test_pieces_of_great_numbers(self):
+        for number in (41, 10 ** 40 - 1):
+            lines = ["put a = 1 0", f"let x = a[0,{number},1,1]", f"def f(a) = a[{number},0,1,{number}]", "let y = f(x)"]
+            self.check(journal_of(lines), lines)
+            book = told(1, *lines)
+            book.pack()
+            self.assertEqual(state(recovered(1, book.journal())[0])[:2], state(book)[:2])
+            self.assertEqual(merged(Book(1), Book(1), book), (
+                ["put a = 1 0", f"def f(a) = a[{number}, 0, 1, {number}]", f"let x = a[0, {number}, 1, 1]", "let y = f(x)"], []))
+        lines[1] = f"let x = a[0,{10 ** 40},1,1]"
+        self.check(journal_of(lines), lines[:1])
+
     def test_other_bases(self):
         text = journal_of(["put a = 1", "let b = a"])
         self.assertEqual(recovered(2, text)[1], 0)

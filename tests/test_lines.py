@@ -14,6 +14,8 @@ from unitgrids.words import unit_text
 
 A, B, C = ("name", "a"), ("name", "b"), ("name", "c")
 BINARY = ("above", "beside", "plus", "times")
+# The greatest number of 40 digits, and the least one of more.
+GREAT, TOO_GREAT = 10 ** 40 - 1, 10 ** 40
 
 
 def tokens_of(text):
@@ -35,7 +37,7 @@ def random_tree(chance, depth):
     if kind == "power":
         return (kind, one, chance.choice((1, 2, 9, 10, 39, 40)))
     if kind == "piece":
-        return (kind, one) + tuple(chance.choice((0, 1, 5, 40)) for _ in range(4))
+        return (kind, one) + tuple(chance.choice((0, 1, 5, 40, 41, 10 ** 39, GREAT)) for _ in range(4))
     return (kind, one, random_tree(chance, depth - 1)) if kind in BINARY else (kind, one)
 
 
@@ -87,6 +89,8 @@ class ReadTest(unittest.TestCase):
                 ("let x = a + b", ("let", "x", ("plus", A, B))), ("let x = a * b", ("let", "x", ("times", A, B))),
                 ("let x = a'", ("let", "x", ("turned", A))), ("let x = a ^ 40", ("let", "x", ("power", A, 40))),
                 ("let x = a[0, 1, 2, 40]", ("let", "x", ("piece", A, 0, 1, 2, 40))),
+                ("let x = a[0, 41, 1, 1]", ("let", "x", ("piece", A, 0, 41, 1, 1))),
+                (f"let x = a[{GREAT},0,100,{10 ** 39}]", ("let", "x", ("piece", A, GREAT, 0, 100, 10 ** 39))),
                 ("let x = a(b)", ("let", "x", ("call", "a", (B,)))),
                 ("let x = a(b, c, a, b)", ("let", "x", ("call", "a", (B, C, A, B)))),
                 ("let x = star(a)", ("let", "x", ("star", A))), ("let x = ((a))", ("let", "x", A)),
@@ -134,7 +138,7 @@ class ReadTest(unittest.TestCase):
                 (1, "let x = star a", 4), (1, "let x = star()", 5), (1, "let x = star(a, b)", 6), (1, "let star = a", 1), (1, "let x = a'b", 5),
                 (1, "let x = 'a", 3), (1, "let x = a^", 5), (1, "let x = a^0", 5), (1, "let x = a^41", 5), (1, "let x = a^40", None), (1, "let x = a^01", 5),
                 (1, "let x = a^b", 5), (1, "let x = a^2 3", 6), (1, "let x = a^-1", 5), (1, "let x = a^(2)", 5), (1, "let x = a[", 5), (1, "let x = a[0,0,1]", 10),
-                (1, "let x = a[0,0,1,41]", 11), (1, "let x = a[0,0,1,40]", None), (1, "let x = a[0 0,1,1]", 6), (1, "let x = a[0,0,1,1,1]", 12), (1, "let x = a[0,0,1,1", 12),
+                (1, "let x = a[0,0,1,41]", None), (1, "let x = a[0,0,1,40]", None), (1, "let x = a[0 0,1,1]", 6), (1, "let x = a[0,0,1,1,1]", 12), (1, "let x = a[0,0,1,1", 12),
                 (1, "let x = a[00,0,1,1]", 5), (1, "let x = a[-1,0,1,1]", 5), (1, "let x = a[a,0,1,1]", 5), (1, "let x = [0,0,1,1]", 3), (1, "let x = f(a,b,c,d)", None),
                 (1, "let x = f(a,b,c,d,e)", 12), (1, "let x = f(a,b,c,d", 12), (1, "let x = f(a,b,c,d,", 12), (1, "let x = f()", 5), (1, "let x = f(,a)", 5),
                 (1, "let x = f(a,)", 7), (1, "let x = f(a)(b)", 7), (1, "let x = (f)(a)", 6), (1, "let x = f(a;b)", 6), (1, "let x = f((a,b))", 7),
@@ -148,6 +152,33 @@ class ReadTest(unittest.TestCase):
             else:
                 fails_with(self, BadLine, lambda: read_line(bases, text), place=place)
 
+    def test_numbers_of_pieces(self):
+        """Any of up to 40 digits, at each of the four places."""
+        for place in range(4):
+            for number in (0, 1, 9, 10, 40, 41, 99, 100, 12345678901234567890, 10 ** 39, GREAT):
+                numbers = [1, 1, 1, 1]
+                numbers[place] = number
+                text = f"let x = a[{', '.join(map(str, numbers))}]"
+                tree = ("let", "x", ("piece", A) + tuple(numbers))
+                self.assertEqual(read_line(1, text), tree)
+                self.assertEqual(line_text(tree), text)
+            for word in (f"{TOO_GREAT}", f"{GREAT}0", "9" * 5000, "0" * 40, "00", "01", "041", f"0{GREAT}", "-1", "+1", "", "a", "x1", ".", "(1)", "]", "'"):
+                words = ["1", "1", "1", "1"]
+                words[place] = word
+                fails_with(self, BadLine, lambda: read_line(1, f"let x = a[{', '.join(words)}]"), place=5 + 2 * place)
+                fails_with(self, BadLine, lambda: read_line(1, f"def f(a) = f(a[{', '.join(words[:place + 1])}"), place=10 + 2 * place)
+
+    def test_wrong_tokens_behind_great_numbers(self):
+        for number in (41, 10 ** 39, GREAT):
+            for text, place in ((f"a[1, {number} 1, 1, 2]", 8), (f"a[1, {number}", 8), (f"a[1, {number}]", 8), (f"a[1, {number}, 1, 1, 1]", 12), (f"a[{number} a", 6),
+                                (f"a[1, 1, 1, {number}", 12), (f"a[{number}, {number}, {number}, {number}] {number}", 13), (f"a[1, {number}, 01, 1]", 9)):
+                fails_with(self, BadLine, lambda: read_line(1, "let x = " + text), place=place)
+
+    def test_other_numbers_are_held_as_before(self):
+        for number in (41, 100, 10 ** 39, GREAT, TOO_GREAT):
+            for text, place in ((f"let x = a^{number}", 5), (f"put a = {number}", 3), (f"put a = -{number}", 4), (f"put a = 1/{number}", 5), (f"put a = 1 {number}", 4)):
+                fails_with(self, BadLine, lambda: read_line(1, text), place=place)
+
     def test_cut_off_at_each_token(self):
         chance = random.Random(251)
         for _ in range(150):
@@ -158,14 +189,15 @@ class ReadTest(unittest.TestCase):
                     read_line(bases, " ".join(tokens[:many]))
                 except BadLine as error:
                     self.assertEqual(error.place, many)
-                for wrong in ("#", "Q", "abcdefghi", "007", "41", "\n", "%", "_", '"'):
+                # Where there is no piece, no number is as great as 41.
+                for wrong in ("#", "Q", "abcdefghi", "007", f"{TOO_GREAT}" if "[" in tokens else "41", "\n", "%", "_", '"'):
                     fails_with(self, BadLine, lambda: read_line(bases, " ".join(tokens[:many] + [wrong] + tokens[many:])), place=many)
                     fails_with(self, BadLine, lambda: read_line(bases, " ".join(tokens[:many] + [wrong])), place=many)
 
     def test_one_token_told_otherwise(self):
         """What is ahead of the place can go on, and with the token there it can't."""
         chance = random.Random(252)
-        words = ["a", "star", "put", "(", ")", "[", "]", ",", ";", ".", "-", "/", "|", "+", "*", "'", "^", "=", "0", "1", "2", "3", "6", "40", "41"]
+        words = ["a", "star", "put", "(", ")", "[", "]", ",", ";", ".", "-", "/", "|", "+", "*", "'", "^", "=", "0", "1", "2", "3", "6", "40", "41", f"{GREAT}", f"{TOO_GREAT}"]
         endings = ["a", ")", ") = a", "= a", "(a)", "1", "1 ; 1", ",0", ",0,0", "0,0", "]", ",1]", ",1,1]", ",1,1,1]", "1,1,1,1]", "1,1]", "1,1,1]", "a)", "= 1", "f = a",
                    "f(a) = a", "f = 1", "a) = a", ". .", ".", ". . .", "1]", "2", "", "0,0,0"]
         refused = 0

@@ -12,7 +12,7 @@ LEVELS = {"above": 1, "beside": 2, "plus": 3, "times": 4, "turned": 5, "power": 
 OUTER_LEVEL = 1
 BEHIND_LEVEL = 5
 MOST_ARGUMENTS = 4
-MOST_NUMBER = 40
+MOST_POWER = 40
 NUMBERS_OF_PIECE = 4
 
 
@@ -82,13 +82,14 @@ def _read_suffix(reader, tree):
         return ("turned", tree)
     if reader.ahead() == "^":
         reader.skip("^")
-        return ("power", tree, reader.take_number(list(range(1, MOST_NUMBER + 1))))
+        return ("power", tree, reader.take_one_of(list(range(1, MOST_POWER + 1))))
     numbers = []
     reader.skip("[")
     while len(numbers) < NUMBERS_OF_PIECE:
         if len(numbers) > 0:
             reader.skip(",")
-        numbers.append(reader.take_number(list(range(MOST_NUMBER + 1))))
+        # A piece that doesn't fit is a fault of the name that is defined, and its line a right one.
+        numbers.append(reader.take_number())
     reader.skip("]")
     return ("piece", tree) + tuple(numbers)
 

@@ -121,12 +121,12 @@ def _read_exponent(reader):
         reader.skip("-")
         sign = -1
     # No 0 has a sign.
-    top = reader.take_number(list(range(0 if sign == 1 else 1, MOST_TOP + 1)))
+    top = reader.take_one_of(list(range(0 if sign == 1 else 1, MOST_TOP + 1)))
     bottoms = [number for number in range(2, MOST_BOTTOM + 1) if gcd(top, number) == 1]
     if reader.ahead() != "/" or len(bottoms) == 0:
         return (sign * top, 1)
     reader.skip("/")
-    return (sign * top, reader.take_number(bottoms))
+    return (sign * top, reader.take_one_of(bottoms))
 
 
 def line_text(tree):

@@ -6,6 +6,8 @@ from unitgrids.words import is_name
 LETTER = 1
 DIGIT = 2
 OTHER = 3
+# As many as integers that are passed have at most; Python itself reads none of some thousand digits.
+MOST_DIGITS = 40
 
 
 def _kind(sign):
@@ -27,6 +29,13 @@ def tokens_of(text):
             tokens.append(text[place:end])
         place = end
     return tokens
+
+
+def _is_number(token):
+    """Whether a token is a number without a needless 0 that has not too many digits."""
+    if not 1 <= len(token) <= MOST_DIGITS or (token[0] == "0" and token != "0"):
+        return False
+    return all(["0" <= sign <= "9" for sign in token])
 
 
 class Reader:
@@ -62,10 +71,16 @@ class Reader:
         self.place += 1
         return token
 
-    def take_number(self, fitting):
-        """One of these numbers."""
+    def take_number(self):
+        """A number of as many digits as there may be."""
         token = self.ahead()
-        if token not in [f"{number}" for number in fitting]:
+        if not _is_number(token):
             raise BadLine(self.place)
         self.place += 1
         return int(token)
+
+    def take_one_of(self, fitting):
+        """One of these numbers."""
+        if self.ahead() not in [f"{number}" for number in fitting]:
+            raise BadLine(self.place)
+        return self.take_number()
